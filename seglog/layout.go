@@ -127,7 +127,7 @@ func takePart(text string) (part, bool) {
 	return p, true
 }
 
-// takeRecord: the mark and the body of the record that stands in the first of these sectors; is there a whole one?
+// takeRecord: the mark and the body of the record that stands in the first of these sectors; is there a whole one? How the bytes are shared out among the parts isn't asked: that all but the last are full holds for what is appended alone.
 func takeRecord(sectors []string) (mark, string, bool) {
 	if len(sectors) == 0 {
 		return mark{}, "", false
@@ -139,11 +139,10 @@ func takeRecord(sectors []string) (mark, string, bool) {
 	body := ""
 	for i, text := range sectors[:first.parts] {
 		p, ok := takePart(text)
-		full := len(p.bytes) == partSize || i == first.parts-1
-		if !ok || p.mark != first.mark || p.place != i || !full {
+		if !ok || p.mark != first.mark || p.place != i {
 			return mark{}, "", false
 		}
 		body += p.bytes
 	}
-	return first.mark, body, partsOf(len(body)) == first.parts
+	return first.mark, body, true
 }

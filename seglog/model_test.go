@@ -53,10 +53,16 @@ func recordOf(boot, seq uint64, body string) []string {
 		last := pieces[len(pieces)-1]
 		pieces = append(pieces[:len(pieces)-1], last[:full], last[full:])
 	}
+	return partsOf(boot, seq, pieces...)
+}
+
+// partsOf: the sectors of a record whose parts hold these pieces, full or not, without what is behind.
+func partsOf(boot, seq uint64, pieces ...string) []string {
+	var texts []string
 	for i, p := range pieces {
-		pieces[i] = partOf(boot, seq, i, len(pieces), len(p), p)
+		texts = append(texts, partOf(boot, seq, i, len(pieces), len(p), p))
 	}
-	return pieces
+	return texts
 }
 
 // model is a log as the chapter tells it, with the disk that it should lie on.
@@ -96,7 +102,7 @@ func (m *model) rightCheckpoint(home, S int) bool {
 	return true
 }
 
-// wholeAt: the boot, the sequence number and the body of the record in the first of these sectors, and how many it takes; 0, where there is none whole. It is one, where its body's own record is what stands there.
+// wholeAt: the boot, the sequence number and the body of the record in the first of these sectors, and how many it takes; 0, where there is none whole. It is one, where the parts of its pieces are what stands there.
 func wholeAt(sectors []string) (boot, seq uint64, body string, parts int) {
 	if len(sectors) == 0 {
 		return
@@ -107,23 +113,20 @@ func wholeAt(sectors []string) (boot, seq uint64, body string, parts int) {
 	if max(boot, seq) > most || parts > min(16, len(sectors)) {
 		return 0, 0, "", 0
 	}
+	var pieces []string
 	for _, s := range sectors[:parts] {
 		size := int(binary.BigEndian.Uint16([]byte(s[21:23])))
 		if size > full {
 			return 0, 0, "", 0
 		}
-		body += s[23 : 23+size]
+		pieces = append(pieces, s[23:23+size])
 	}
-	want := recordOf(boot, seq, body)
-	if len(want) != parts {
-		return 0, 0, "", 0
-	}
-	for i, s := range want {
+	for i, s := range partsOf(boot, seq, pieces...) {
 		if !strings.HasPrefix(sectors[i], s) {
 			return 0, 0, "", 0
 		}
 	}
-	return boot, seq, body, parts
+	return boot, seq, strings.Join(pieces, ""), parts
 }
 
 // look: the log that lies on such a disk, just ahead of Open's own checkpoint.

@@ -115,11 +115,12 @@ func TestRecords(t *testing.T) {
 		{three[:2], false}, {three[1:], false}, {[]string{three[0], three[2], three[1]}, false}, {[]string{three[0], three[0], three[1]}, false},
 		{mixed(1, partOf(2, 4, 1, 3, full, part)), false}, {mixed(1, partOf(1, 5, 1, 3, full, part)), false}, {mixed(1, partOf(1, 4, 1, 4, full, part)), false}, {mixed(1, partOf(1, 4, 1, 2, full, part)), false},
 		{mixed(1, partOf(1, 4, 2, 3, full, part)), false}, {mixed(1, partOf(1, 4, 0, 3, full, part)), false},
-		{mixed(1, partOf(1, 4, 1, 3, full-1, part)), false}, {mixed(0, partOf(1, 4, 0, 3, 0, "")), false}, {mixed(2, partOf(1, 4, 2, 3, full, part)), true}, {mixed(2, partOf(1, 4, 2, 3, 0, "")), false},
+		{mixed(1, partOf(1, 4, 1, 3, full-1, part)), true}, {mixed(0, partOf(1, 4, 0, 3, 0, "")), true}, {mixed(2, partOf(1, 4, 2, 3, full, part)), true}, {mixed(2, partOf(1, 4, 2, 3, 0, "")), true},
 		{mixed(2, partOf(1, 4, 2, 3, full+1, part)), false}, {mixed(2, partOf(1, 4, 2, 3, 256, part)), false}, {mixed(2, "S"+three[2][1:]), false}, {mixed(0, "r"+three[0][1:]), false}, {mixed(2, ""), false},
 		{[]string{partOf(1, 4, 0, 0, 0, "")}, false}, {[]string{partOf(1, 4, 1, 1, 0, "")}, false}, {[]string{partOf(1, 4, 0, 1, full+1, part)}, false}, {[]string{partOf(1, 4, 0, 1, 65535, part)}, false},
 		{[]string{partOf(1, 4, 0, 17, full, part)}, false}, {[]string{partOf(1, 4, 0, 257, full, part)}, false}, {[]string{partOf(1, 4, 256, 1, 0, "")}, false}, {[]string{partOf(1, 4, 0, 2, full, part)}, false},
-		{[]string{partOf(1, 4, 0, 2, 20, part), partOf(1, 4, 1, 2, 20, part)}, false}, {[]string{partOf(1, 4, 0, 2, 100, part), partOf(1, 4, 1, 2, 200, part)}, false},
+		{[]string{partOf(1, 4, 0, 2, 20, part), partOf(1, 4, 1, 2, 20, part)}, true}, {[]string{partOf(1, 4, 0, 2, 100, part), partOf(1, 4, 1, 2, 200, part)}, true}, {[]string{partOf(1, 4, 0, 2, full+1, part), partOf(1, 4, 1, 2, 0, "")}, false},
+		{partsOf(1, 4, make([]string, 16)...), true}, {partsOf(1, 4, make([]string, 16)...)[:15], false}, {[]string{partOf(1, 4, 0, 2, 0, ""), partOf(1, 4, 1, 3, 0, "")}, false}, {[]string{partOf(1, 4, 0, 2, 0, ""), partOf(2, 4, 1, 2, 0, "")}, false},
 	} {
 		image := emptyImage(66)
 		for j, s := range c.sectors {
@@ -135,6 +136,36 @@ func TestRecords(t *testing.T) {
 		held(t, found)
 		if _, got, e := seglog.Open(diskOf(t, found)); e != api.OK || (len(got) == 1) != c.ok {
 			t.Errorf("%d, found: %d records, %d", i, len(got), e)
+		}
+	}
+}
+
+// P5.2: a record is whole however its body is shared out among its parts; what is appended behind it stands right behind.
+func TestPartsThatAreNotFull(t *testing.T) {
+	for i, pieces := range [][]string{
+		{"", ""}, {"ab", "c"}, {"", "x"}, {"x", ""}, {sized(full - 1), "x"}, {sized(full), ""}, {sized(full), sized(full), ""}, {"", sized(full), sized(full)}, make([]string, 16), append(make([]string, 15), "x"),
+	} {
+		body := strings.Join(pieces, "")
+		image := emptyImage(66)
+		for j, s := range partsOf(1, 5, pieces...) {
+			image[2+16*2+j] = s + strings.Repeat("\xa5", 256-len(s))
+		}
+		want := records{{Seq: 5, Segment: 2, Body: body}}
+		for _, c := range []string{checkpointOf(1, 1, 5, 2, 0), checkpointOf(1, 1, 6, 2, byte(len(pieces)))} {
+			image[0] = c
+			held(t, image)
+			d := diskOf(t, image)
+			l, got, e := seglog.Open(d)
+			if e != api.OK || !slices.Equal(got, want) || !slices.Equal(l.Segments(), segments{{ID: 2, Used: len(pieces)}}) {
+				t.Errorf("%d: records %.60v, segments %v, %d", i, got, l.Segments(), e)
+				continue
+			}
+			if r, e := l.Append(body); e != api.OK || r.Seq != 6 {
+				t.Errorf("%d: Append: %d, %d", i, r.Seq, e)
+			}
+			if _, got, e := seglog.Open(d); e != api.OK || len(got) != 2 || got[0] != want[0] || got[1].Body != body {
+				t.Errorf("%d: opened again: %d records, %d", i, len(got), e)
+			}
 		}
 	}
 }
@@ -268,6 +299,15 @@ func TestSpentNumbers(t *testing.T) {
 	}
 }
 
+// chancePieces: so many pieces, each of any size that a part can have.
+func chancePieces(r *rand.Rand, count int) []string {
+	pieces := make([]string, count)
+	for i := range pieces {
+		pieces[i] = sized([]int{0, r.Intn(full + 1), full}[r.Intn(3)])
+	}
+	return pieces
+}
+
 // chanceImage: a disk with a log on it, most of the time.
 func chanceImage(r *rand.Rand) []string {
 	image := emptyImage(66 + r.Intn(40))
@@ -283,6 +323,9 @@ func chanceImage(r *rand.Rand) []string {
 	}
 	put := func(at int, boot, seq uint64, left int) int {
 		texts := recordOf(boot, seq, sized(r.Intn(full*min(left, 1+r.Intn(6))+1)))
+		if r.Intn(4) == 0 {
+			texts = partsOf(boot, seq, chancePieces(r, len(texts))...)
+		}
 		for i, s := range texts {
 			image[at+i] = s + image[at+i][len(s):]
 		}
